@@ -1,0 +1,1 @@
+"""Labelframes: tables of labelled columns, and pipelines over them."""

@@ -1,0 +1,227 @@
+"""Tests of ../shared/LANGUAGE.md: those of its rules that can be seen from the code of the package alone."""
+
+import ast
+import builtins
+import os
+import re
+import unittest
+
+FOLDER = os.path.join(os.path.dirname(os.path.dirname(os.path.abspath(__file__))), "labelframes")
+BUILTINS = set("""len range enumerate zip min max sum abs sorted reversed int str bool bytes list tuple dict set frozenset
+isinstance ord repr any all divmod pow getattr hasattr setattr map iter next type Exception ValueError TypeError KeyError
+IndexError LookupError ZeroDivisionError ArithmeticError OverflowError RuntimeError NotImplementedError AttributeError
+StopIteration NotImplemented property staticmethod classmethod super""".split())
+METHODS = set("""append clear copy count endswith extend find get index insert isalnum isalpha isdigit islower isspace isupper
+items join keys ljust lower lstrip partition pop remove replace reverse rfind rjust rpartition rsplit rstrip setdefault split
+splitlines startswith strip update upper values zfill bit_length add discard isascii isprintable""".split())
+SPECIAL = set("""__init__ __eq__ __repr__ __str__ __len__ __enter__ __exit__ __call__ __iter__ __contains__ __getitem__ __add__
+__sub__ __mul__ __floordiv__ __and__ __or__ __invert__""".split())
+BARRED = set("""mro elements open input law version_info with_traceback add_note register attrgetter breakpoint builtins compile
+copyright credits delattr dir eval exec exit gc globals help id importlib license locals methodcaller os quit vars sys typing
+typing_extensions enum Enum IntEnum StrEnum Flag IntFlag Generic Protocol ABC ABCMeta namedtuple NamedTuple TypedDict
+TYPE_CHECKING abstractmethod dataclass overload contextmanager _wall _WallAttr _cold _tuplegetter _outside _record _written_out
+_member_names""".split())
+STATEMENTS = (ast.FunctionDef, ast.ClassDef, ast.Return, ast.Delete, ast.Assign, ast.AugAssign, ast.For, ast.While, ast.If,
+              ast.With, ast.Match, ast.Raise, ast.Try, ast.Assert, ast.ImportFrom, ast.Nonlocal, ast.Expr, ast.Pass,
+              ast.Break, ast.Continue)
+LIBRARY = {"heapq", "math", "itertools", "collections"}
+
+
+def modules():
+    """The name, the text and the tree of each file."""
+    for name in sorted(os.listdir(FOLDER)):
+        if name.endswith(".py"):
+            with open(os.path.join(FOLDER, name), encoding="utf-8") as file:
+                text = file.read()
+            yield name[:-3], text, ast.parse(text)
+
+
+def nodes_of(kinds):
+    """Each node of these kinds, with the place where it stands."""
+    for name, _, tree in modules():
+        for node in ast.walk(tree):
+            if isinstance(node, kinds):
+                yield node, f"{name}.py:{getattr(node, 'lineno', 0)}"
+
+
+def docstrings(tree):
+    """The docstrings of a file."""
+    kinds = (ast.Module, ast.ClassDef, ast.FunctionDef)
+    return [node.body[0].value for node in ast.walk(tree) if isinstance(node, kinds) and ast.get_docstring(node) is not None]
+
+
+class FilesTest(unittest.TestCase):
+    def test_files(self):
+        for name in os.listdir(FOLDER):
+            if name != "__pycache__":
+                self.assertRegex(name, r"\A(__init__|__main__|[a-z][a-z0-9_]*)\.py\Z")
+                self.assertFalse(name.startswith(("test", "law_")), name)
+                if not name.startswith("__"):
+                    self.assertFalse(hasattr(builtins, name[:-3]), name)
+
+    def test_signs(self):
+        for name, text, _ in modules():
+            self.assertRegex(text, r"\A[ -~\n]*\Z", name)
+            self.assertTrue(text.endswith("\n") and not re.search(r"[ ]\n", text), name)
+
+    def test_sizes(self):
+        for name, text, _ in modules():
+            lines = text.split("\n")
+            self.assertLess(len(lines), 400, name)
+            self.assertLessEqual(max([len(line) for line in lines]), 120, name)
+        for node, place in nodes_of(ast.FunctionDef):
+            self.assertLessEqual(node.end_lineno - node.lineno + 1, 40, place)
+
+
+class ImportsTest(unittest.TestCase):
+    def test_forms(self):
+        self.assertEqual([place for _, place in nodes_of(ast.Import)], [])
+        for name, _, tree in modules():
+            rest = tree.body[1:]
+            while rest and isinstance(rest[0], ast.ImportFrom):
+                rest = rest[1:]
+            for statement in rest:
+                self.assertFalse([node for node in ast.walk(statement) if isinstance(node, ast.ImportFrom)], name)
+        for node, place in nodes_of(ast.ImportFrom):
+            self.assertEqual(node.level, 0, place)
+            self.assertTrue(node.module.startswith("labelframes.") or node.module in LIBRARY, place)
+            self.assertTrue(all([alias.name != "*" and alias.asname is None for alias in node.names]), place)
+
+    def test_names_stand_in_the_files_that_define_them(self):
+        defined = {}
+        for name, _, tree in modules():
+            bound = [node.name for node in tree.body if isinstance(node, (ast.FunctionDef, ast.ClassDef))]
+            bound += [node.targets[0].id for node in tree.body if isinstance(node, ast.Assign)]
+            imported = [alias.name for node in tree.body if isinstance(node, ast.ImportFrom) for alias in node.names]
+            self.assertEqual(len(set(bound + imported)), len(bound + imported), name)
+            defined["labelframes." + name] = bound
+        for node, place in nodes_of(ast.ImportFrom):
+            for alias in node.names:
+                self.assertIn(alias.name, defined.get(node.module, [alias.name]), place)
+
+    def test_no_circles(self):
+        reached = {name: {node.module.split(".")[-1] for node in tree.body if isinstance(node, ast.ImportFrom)}
+                   for name, _, tree in modules()}
+        for _ in reached:
+            for name, others in reached.items():
+                reached[name] = others.union(*[reached.get(other, set()) for other in others])
+        for name, others in reached.items():
+            self.assertNotIn(name, others)
+
+
+class StatementsTest(unittest.TestCase):
+    def test_module_level(self):
+        for name, _, tree in modules():
+            self.assertIsNotNone(ast.get_docstring(tree), name)
+            for node in tree.body[1:]:
+                self.assertIsInstance(node, (ast.ImportFrom, ast.FunctionDef, ast.ClassDef, ast.Assign), name)
+
+    def test_statements(self):
+        for node, place in nodes_of(ast.stmt):
+            self.assertIsInstance(node, STATEMENTS, place)
+
+    def test_no_floats_and_no_division(self):
+        for node, place in nodes_of(ast.Constant):
+            self.assertNotIsInstance(node.value, (float, complex), place)
+        self.assertEqual([place for _, place in nodes_of((ast.Div, ast.MatMult))], [])
+
+    def test_decorators(self):
+        for node, place in nodes_of((ast.FunctionDef, ast.ClassDef)):
+            for decorator in node.decorator_list:
+                self.assertIn(ast.unparse(decorator), ("property", "staticmethod", "classmethod"), place)
+
+    def test_is(self):
+        for node, place in nodes_of(ast.Compare):
+            for sign, right in zip(node.ops, node.comparators):
+                if isinstance(sign, (ast.Is, ast.IsNot)):
+                    self.assertIn(ast.unparse(right), ("None", "True", "False"), place)
+
+    def test_any_and_its_kin_take_lists(self):
+        for node, place in nodes_of(ast.Call):
+            if ast.unparse(node.func) in ("any", "all", "min", "max", "sum", "sorted"):
+                self.assertFalse([item for item in node.args if isinstance(item, ast.GeneratorExp)], place)
+
+    def test_errors_are_created_where_they_are_raised(self):
+        for node, place in nodes_of(ast.Raise):
+            self.assertTrue(node.exc is None or isinstance(node.exc, ast.Call), place)
+
+    def test_no_set_is_iterated(self):
+        for node, place in nodes_of((ast.For, ast.comprehension)):
+            self.assertNotIsInstance(node.iter, (ast.Set, ast.SetComp), place)
+            self.assertNotRegex(ast.unparse(node.iter), r"\A(set|frozenset)\(", place)
+
+
+class NamesTest(unittest.TestCase):
+    def test_builtins(self):
+        for node, place in nodes_of(ast.Name):
+            if hasattr(builtins, node.id):
+                self.assertIn(node.id, BUILTINS, place)
+                self.assertIsInstance(node.ctx, ast.Load, place)
+        for node, place in nodes_of(ast.arg):
+            self.assertFalse(hasattr(builtins, node.arg), place)
+        for name, _, tree in modules():
+            for node in tree.body:
+                if isinstance(node, (ast.FunctionDef, ast.ClassDef)):
+                    self.assertFalse(hasattr(builtins, node.name), name)
+
+    def test_barred_names(self):
+        for node, place in nodes_of(ast.AST):
+            for field in ("id", "name", "attr", "arg"):
+                name = getattr(node, field, None)
+                if isinstance(name, str):
+                    self.assertNotIn(name, BARRED, place)
+                    self.assertTrue(name in SPECIAL or not name.startswith("__"), place)
+
+    def test_barred_words(self):
+        for name, text, _ in modules():
+            for word in ("_wall", "dataclass", "overload", "contextmanager", "(type)", "Meta", "metaclass="):
+                self.assertNotIn(word, text, name)
+
+    def test_no_percent_signs_and_no_unusual_escapes(self):
+        for name, text, tree in modules():
+            skipped = docstrings(tree)
+            for node in ast.walk(tree):
+                if isinstance(node, ast.Constant) and isinstance(node.value, str) and node not in skipped:
+                    self.assertNotIn("%", node.value, name)
+            self.assertNotRegex(text.replace("\\\\", ""), r"\\[^nt\"'\\]", name)
+
+    def test_methods(self):
+        own = {node.name for node, _ in nodes_of(ast.FunctionDef)}
+        for node, place in nodes_of(ast.Call):
+            if isinstance(node.func, ast.Attribute):
+                self.assertIn(node.func.attr, METHODS | own, place)
+
+    def test_no_local_name_is_that_of_an_import_or_a_class(self):
+        for name, _, tree in modules():
+            taken = {alias.name for node in tree.body if isinstance(node, ast.ImportFrom) for alias in node.names}
+            taken |= {node.name for node in tree.body if isinstance(node, ast.ClassDef)}
+            for node in ast.walk(tree):
+                if isinstance(node, ast.arg):
+                    self.assertNotIn(node.arg, taken, name)
+                if isinstance(node, ast.Name) and isinstance(node.ctx, ast.Store):
+                    self.assertNotIn(node.id, taken, name)
+
+
+class SpecialMethodsTest(unittest.TestCase):
+    def test_returns(self):
+        for node, place in nodes_of(ast.FunctionDef):
+            ends = [inner.value for inner in ast.walk(node) if isinstance(inner, ast.Return)]
+            if node.name == "__init__":
+                self.assertEqual(ends, [], place)
+            if node.name == "__len__":
+                self.assertTrue(all([ast.unparse(end).startswith("len(") for end in ends]), place)
+            if node.name in ("__str__", "__repr__"):
+                for end in ends:
+                    self.assertRegex(ast.unparse(end), r"\A(f?['\"].*|str\(.*|repr\(.*)\Z", place)
+            if node.name == "__eq__":
+                self.assertRegex(ast.unparse(node.body[0]), r"\Areturn isinstance\(other, \w+\) and ", place)
+
+    def test_classes_with_brackets_are_not_iterated_over(self):
+        for node, place in nodes_of(ast.ClassDef):
+            methods = {method.name for method in node.body if isinstance(method, ast.FunctionDef)}
+            if "__getitem__" in methods:
+                self.assertIn("__iter__", methods, place)
+
+
+if __name__ == "__main__":
+    unittest.main()
