@@ -86,6 +86,32 @@ def nodes_inside(node, inner):
     return [item for field, item in zip(fields_of(node, inner), node[1:]) if field == inner]
 
 
+def nodes_of(tree, inner):
+    """The list of a tree and of all nodes inside of it, each before those inside of it."""
+    deeper = [node for item in nodes_inside(tree, inner) for node in nodes_of(item, inner)]
+    return [tree, *deeper]
+
+
+def parts_of(expression):
+    """The list of an expression and of all expressions inside of it."""
+    return nodes_of(expression, "part")
+
+
+def steps_of(plan):
+    """The list of a plan and of all plans inside of it."""
+    return nodes_of(plan, "plan")
+
+
+def inputs_of(plan):
+    """The list of the inputs of a plan."""
+    return nodes_inside(plan, "plan")
+
+
+def columns_within(expression):
+    """The list of the names of the columns of an expression, each as often as it stands there."""
+    return [part[1] for part in parts_of(expression) if part[0] == "col"]
+
+
 def first_fault(tree, inner, most_nodes, most_levels):
     """The path to the first node of none of the forms, or () if only a limit is exceeded, or None."""
     # Not by recursion: what is passed may be deeper than any limit.

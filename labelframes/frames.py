@@ -2,7 +2,7 @@
 
 from labelframes.errors import InvalidName, InvalidNumber, NotAFrame, NotAHouse, UnknownColumn, UnknownSource
 from labelframes.texts import frame_lines, read_frame, table_line
-from labelframes.values import check_rows, check_schema, is_index, is_name
+from labelframes.values import check_rows, check_schema, is_index, is_name, names_of
 
 
 class Frame:
@@ -33,7 +33,7 @@ class Frame:
     @property
     def names(self):
         """The tuple of the names of the columns."""
-        return tuple([column[0] for column in self._schema])
+        return names_of(self._schema)
 
     def column(self, name):
         """The tuple of the values of a column."""

@@ -34,7 +34,7 @@ def header_line(schema):
 
 def frame_lines(schema, rows):
     """The lines of the text of a frame, without their newlines."""
-    return [header_line(schema)] + [",".join([cell_text(value) for value in row]) for row in rows]
+    return [header_line(schema), *[",".join([cell_text(value) for value in row]) for row in rows]]
 
 
 def table_cell(value):

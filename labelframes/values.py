@@ -1,6 +1,6 @@
 """Names, kinds, values, rows and schemas: what is one, and the errors if it is none."""
 
-from labelframes.errors import InvalidRows, InvalidSchema, InvalidSchemas
+from labelframes.errors import InvalidRow, InvalidRows, InvalidSchema, InvalidSchemas
 
 KINDS = ("int", "text", "bool")
 MOST_LETTERS = 8
@@ -95,6 +95,21 @@ def check_schemas(schemas):
         before = pair[0]
 
 
+def names_of(schema):
+    """The tuple of the names of the columns of a schema."""
+    return tuple([name for name, _ in schema])
+
+
+def kinds_of(schema):
+    """For the name of each column of a schema its kind."""
+    return {name: kind for name, kind in schema}
+
+
+def places_of(schema):
+    """For the name of each column of a schema its index."""
+    return {column[0]: index for index, column in enumerate(schema)}
+
+
 def is_row(value, schema):
     """Whether a value is a row of a schema."""
     if not isinstance(value, tuple) or len(value) != len(schema):
@@ -109,3 +124,12 @@ def check_rows(rows, schema):
     for index, row in enumerate(rows):
         if not is_row(row, schema):
             raise InvalidRows(index)
+
+
+def check_row(row, schema):
+    """Raises InvalidRow if a value is not a row of a schema."""
+    if not isinstance(row, tuple) or len(row) != len(schema):
+        raise InvalidRow(None)
+    for index, column in enumerate(schema):
+        if not is_value(column[1], row[index]):
+            raise InvalidRow(index)

@@ -26,6 +26,33 @@ STATEMENTS = (ast.FunctionDef, ast.ClassDef, ast.Return, ast.Delete, ast.Assign,
               ast.Break, ast.Continue)
 LIBRARY = {"heapq", "math", "itertools", "collections"}
 
+# For each file its functions, and its classes with their methods, all with their parameters.
+OTHER = dict.fromkeys(("equals", "less", "at_most", "modulo", "glued", "otherwise", "__add__", "__sub__", "__mul__", "__floordiv__",
+                       "__and__", "__or__", "__eq__"), "self, other")
+SELF = dict.fromkeys(("__str__", "__repr__"), "self")
+INTERFACE = (
+    ("frames", {}, {
+        "Frame": {"__init__": "self, schema, rows=()", "schema": "self", "rows": "self", "names": "self", "read": "cls, text",
+                  "column": "self, name", "table": "self", "__len__": "self", "__getitem__": "self, at", "__eq__": "self, other", **SELF},
+        "House": {"__init__": "self, **frames", "names": "self", "schemas": "self", "replaced": "self, **frames",
+                  "__getitem__": "self, name", "__contains__": "self, name", "__len__": "self", "__eq__": "self, other"}}),
+    ("notation", {"expression_text": "expression", "plan_text": "plan", "read_expression": "text", "read_plan": "text"}, {}),
+    ("expressions", {"columns_of": "expression", "kind_of": "expression, schema", "value_of": "expression, schema, row",
+                     "folded": "expression"}, {
+        "Expr": {"__init__": "self, expression", "col": "name", "missing": "kind", "of": "cls, value", "read": "cls, text",
+                 "tree": "self", "__invert__": "self", "there": "self", "size": "self", "choose": "self, one, two",
+                 "__call__": "self, frame", **OTHER, **SELF}}),
+    ("plans", {"schema_of": "plan, schemas", "sources_of": "plan", "node_at": "plan, path"}, {
+        "Pipe": {"__init__": "self, plan", "scan": "source", "read": "cls, text", "plan": "self", "where": "self, expr",
+                 "with_column": "self, name, expr", "pick": "self, *names", "first": "self, *names", "rename": "self, old, new",
+                 "slice": "self, start, count=None", "sorted_by": "self, *names, up=True",
+                 "joined": "self, other, *pairs, how='inner'", "group": "self, *names, **sums",
+                 "running": "self, new, function, name, *by", "melt": "self, label, value, *names, keep=()",
+                 "__add__": "self, other", "__call__": "self, house", "__len__": "self", "__eq__": "self, other", **SELF}}),
+    ("running", {"run": "plan, house", "result": "the_plan, **frames"}, {}),
+    ("rewriting", {"rules_at": "plan, path, schemas", "rewritten": "plan, steps, schemas", "best": "plan, schemas"}, {}),
+)
+
 
 def modules():
     """The name, the text and the tree of each file."""
@@ -200,6 +227,24 @@ class NamesTest(unittest.TestCase):
                     self.assertNotIn(node.arg, taken, name)
                 if isinstance(node, ast.Name) and isinstance(node.ctx, ast.Store):
                     self.assertNotIn(node.id, taken, name)
+
+
+class InterfaceTest(unittest.TestCase):
+    def test_names_are_defined_in_their_files(self):
+        trees = {name: tree for name, _, tree in modules()}
+        for name, functions, classes in INTERFACE:
+            defined = {node.name: node for node in trees[name].body if isinstance(node, (ast.FunctionDef, ast.ClassDef))}
+            for function, parameters in functions.items():
+                self.assertIsInstance(defined[function], ast.FunctionDef)
+                self.assertEqual(ast.unparse(defined[function].args), parameters, function)
+            for kind, methods in classes.items():
+                found = {node.name: node for node in defined[kind].body if isinstance(node, ast.FunctionDef)}
+                for method, parameters in methods.items():
+                    self.assertEqual(ast.unparse(found[method].args), parameters, f"{kind}.{method}")
+
+    def test_rules_are_a_tuple_of_their_file(self):
+        tree = {name: tree for name, _, tree in modules()}["rewriting"]
+        self.assertIn("RULES", [node.targets[0].id for node in tree.body if isinstance(node, ast.Assign)])
 
 
 class SpecialMethodsTest(unittest.TestCase):
