@@ -150,15 +150,16 @@ def total_with(function, total, value):
 
 def running_rows(node, places, rows):
     """The rows of a "running" behind these."""
-    _, _, _, function, name, by = node
-    chosen = places_for(by, places)
     totals = {}
-    found = []
-    for row in rows:
-        key = values_at(row, chosen)
-        totals[key] = total_with(function, totals.get(key, total_of_none(function)), row[places[name]])
-        found.append((*row, totals[key]))
-    return found
+    return [running_row(node, places, totals, row) for row in rows]
+
+
+def running_row(node, places, totals, row):
+    """The row of a "running" behind this one; `totals` are those of the rows before it, and are brought up to it."""
+    _, _, _, function, name, by = node
+    key = values_at(row, places_for(by, places))
+    totals[key] = total_with(function, totals.get(key, total_of_none(function)), row[places[name]])
+    return (*row, totals[key])
 
 
 def melt_rows(node, places, rows):
@@ -170,28 +171,35 @@ def melt_rows(node, places, rows):
 
 def join_rows(node, schemas, inputs):
     """The rows of a "join" of two inputs with these schemas and rows."""
-    _, _, _, pairs, how = node
-    places = places_of(schemas[1])
-    chosen = [places[name] for name, _ in unpaired(pairs, schemas[1])]
-    found = []
-    for row, matching in zip(inputs[0], matches(pairs, schemas, inputs)):
-        if how == "semi" and len(matching) > 0 or how == "anti" and len(matching) == 0:
-            found.append(row)
-        if how in ("inner", "left"):
-            found.extend([(*row, *values_at(other, chosen)) for other in matching])
-        if how == "left" and len(matching) == 0:
-            found.append((*row, *[None for _ in chosen]))
-    return found
+    joining = Joining(node, schemas, inputs[1])
+    return [joined for row in inputs[0] for joined in joining.rows_for(row)]
 
 
-def matches(pairs, schemas, inputs):
-    """For each row of the left input the list of the rows of the right one that match it."""
-    left_places = places_for([one for one, _ in pairs], places_of(schemas[0]))
-    right_places = places_for([other for _, other in pairs], places_of(schemas[1]))
-    groups = grouped(inputs[1], right_places)
-    keys = [values_at(row, left_places) for row in inputs[0]]
-    # Missing values are equal to nothing, not even to each other.
-    return [[] if None in key else groups.get(key, []) for key in keys]
+class Joining:
+    """A "join" that has the rows of its right input, and takes those of the left one one by one."""
+
+    def __init__(self, node, schemas, rows):
+        _, _, _, pairs, how = node
+        places = places_of(schemas[1])
+        self.how = how
+        self.left = places_for([one for one, _ in pairs], places_of(schemas[0]))
+        self.added = [places[name] for name, _ in unpaired(pairs, schemas[1])]
+        self.groups = grouped(rows, places_for([other for _, other in pairs], places))
+
+    def matching(self, row):
+        """The list of the rows of the right input that match a row of the left one."""
+        key = values_at(row, self.left)
+        # Missing values are equal to nothing, not even to each other.
+        return [] if None in key else self.groups.get(key, [])
+
+    def rows_for(self, row):
+        """The list of the rows that there are for a row of the left input."""
+        others = self.matching(row)
+        if self.how in ("semi", "anti"):
+            return [row] if (len(others) > 0) == (self.how == "semi") else []
+        if self.how == "left" and len(others) == 0:
+            return [(*row, *[None for _ in self.added])]
+        return [(*row, *values_at(other, self.added)) for other in others]
 
 
 NODE_ROWS = {

@@ -14,7 +14,7 @@ StopIteration NotImplemented property staticmethod classmethod super""".split())
 METHODS = set("""append clear copy count endswith extend find get index insert isalnum isalpha isdigit islower isspace isupper
 items join keys ljust lower lstrip partition pop remove replace reverse rfind rjust rpartition rsplit rstrip setdefault split
 splitlines startswith strip update upper values zfill bit_length add discard isascii isprintable""".split())
-SPECIAL = set("""__init__ __eq__ __repr__ __str__ __len__ __enter__ __exit__ __call__ __iter__ __contains__ __getitem__ __add__
+SPECIAL = set("""__init__ __eq__ __repr__ __str__ __len__ __bool__ __enter__ __exit__ __call__ __iter__ __contains__ __getitem__ __add__
 __sub__ __mul__ __floordiv__ __and__ __or__ __invert__""".split())
 BARRED = set("""mro elements open input law version_info with_traceback add_note register attrgetter breakpoint builtins compile
 copyright credits delattr dir eval exec exit gc globals help id importlib license locals methodcaller os quit vars sys typing
@@ -51,6 +51,25 @@ INTERFACE = (
                  "__add__": "self, other", "__call__": "self, house", "__len__": "self", "__eq__": "self, other", **SELF}}),
     ("running", {"run": "plan, house", "result": "the_plan, **frames"}, {}),
     ("rewriting", {"rules_at": "plan, path, schemas", "rewritten": "plan, steps, schemas", "best": "plan, schemas"}, {}),
+    ("demand", {"rows_of": "the_plan, **feeds", "chunks": "the_plan, the_size, **feeds"}, {}),
+    ("origins", {"origins": "plan, house", "narrowed": "house, origin"}, {}),
+    ("simple", {"is_simple": "plan, schemas", "correspondence": "plan, other, schemas", "alike": "plan, other, schemas",
+                "difference": "plan, other, schemas"}, {}),
+    ("sheets", {"used": "sheet, action"}, {
+        "Sheet": {"__init__": "self, frame, *, block=4", "schema": "self", "copies": "self", "is_open": "self",
+                  "put": "self, index, name, value", "add_row": "self, row", "to_frame": "self", "twin": "self", "close": "self",
+                  "shared": "self, other", "__enter__": "self", "__exit__": "self, kind, value, trace", "__len__": "self"},
+        "NotedSheet": {"notes": "self", "put": "self, index, name, value", "add_row": "self, row", "twin": "self"},
+        "BoundedSheet": {"most": "self", "change_most": "self, most", "add_row": "self, row", "twin": "self"},
+        "NotedBoundedSheet": {"twin": "self"}}),
+    ("kept", {}, {
+        "Kept": {"__init__": "self, plan, house", "house": "self", "frame": "self", "busy": "self", "attempts": "self",
+                 "do": "self, change", "insert_row": "self, source, index, row", "remove_row": "self, source, index",
+                 "replace_row": "self, source, index, row", "do_all": "self, changes, *, watch=None", "undo": "self",
+                 "history": "self", "__len__": "self", "__bool__": "self", "__eq__": "self, other"}}),
+    ("checker", {"accepts": "claim, certificate"}, {}),
+    ("certificates", {"certify_best": "plan, schemas", "certify_alike": "plan, other, schemas"}, {}),
+    ("console", {}, {"Console": {"__init__": "self, **frames", "say": "self, line"}}),
 )
 
 
@@ -229,6 +248,126 @@ class NamesTest(unittest.TestCase):
                     self.assertNotIn(node.id, taken, name)
 
 
+class GeneratorsTest(unittest.TestCase):
+    def generators(self):
+        """The functions that yield, by their names."""
+        return {node.name: node for node, _ in nodes_of(ast.FunctionDef)
+                if any([isinstance(inner, (ast.Yield, ast.YieldFrom)) for inner in ast.walk(node)])}
+
+    def test_names(self):
+        every = [node.name for node, _ in nodes_of(ast.FunctionDef)]
+        for name, node in self.generators().items():
+            self.assertEqual(every.count(name), 1, name)
+            self.assertNotIn(name, METHODS)
+            self.assertEqual(node.decorator_list, [])
+
+    def test_yields_are_statements_outside_of_try_and_with(self):
+        for name, node in self.generators().items():
+            for inner in ast.walk(node):
+                self.assertNotIsInstance(inner, (ast.Try, ast.With, ast.GeneratorExp), name)
+                self.assertFalse(isinstance(inner, ast.Return) and inner.value is not None, name)
+            yields = [inner for inner in ast.walk(node) if isinstance(inner, (ast.Yield, ast.YieldFrom))]
+            alone = [inner.value for inner in ast.walk(node) if isinstance(inner, ast.Expr)]
+            self.assertTrue(all([inner in alone for inner in yields]), name)
+
+    def test_calls_are_iterated_at_once_beside_plain_names(self):
+        names = self.generators()
+        fit = []
+        for node, _ in nodes_of((ast.For, ast.YieldFrom, ast.Call)):
+            if isinstance(node, ast.Call) and ast.unparse(node.func) in ("list", "tuple"):
+                fit += node.args
+            elif not isinstance(node, ast.Call):
+                fit.append(node.iter if isinstance(node, ast.For) else node.value)
+        fitting = {ast.unparse(node) for node in fit}
+        for node, place in nodes_of(ast.Call):
+            if isinstance(node.func, ast.Name) and node.func.id in names:
+                self.assertIn(ast.unparse(node), fitting, place)
+                self.assertTrue(all([isinstance(item, ast.Name) for item in node.args]) and node.keywords == [], place)
+        for node, place in nodes_of(ast.Name):
+            if node.id in names:
+                self.assertIsInstance(node.ctx, ast.Load, place)
+
+
+class MatchTest(unittest.TestCase):
+    def test_captured_names_mean_nothing_else(self):
+        for node, place in nodes_of(ast.FunctionDef):
+            captured = {inner.name for inner in ast.walk(node) if isinstance(inner, (ast.MatchAs, ast.MatchStar)) and inner.name}
+            stored = {inner.id for inner in ast.walk(node) if isinstance(inner, ast.Name) and isinstance(inner.ctx, ast.Store)}
+            taken = stored | {inner.arg for inner in ast.walk(node) if isinstance(inner, ast.arg)}
+            self.assertEqual(captured & taken, set(), place)
+            self.assertFalse([name for name in captured if hasattr(builtins, name)], place)
+
+    def test_names_are_read_in_their_own_case(self):
+        for node, place in nodes_of(ast.FunctionDef):
+            matches = [inner for inner in ast.walk(node) if isinstance(inner, ast.Match)]
+            outside = node.body
+            for match in matches:
+                captured = {inner.name for inner in ast.walk(match) if isinstance(inner, (ast.MatchAs, ast.MatchStar)) and inner.name}
+                rest = [statement for statement in outside if statement is not match]
+                for statement in rest:
+                    self.assertFalse([inner for inner in ast.walk(statement) if isinstance(inner, ast.Name) and inner.id in captured],
+                                     place)
+                for case in match.cases:
+                    own = {inner.name for inner in ast.walk(case.pattern) if isinstance(inner, (ast.MatchAs, ast.MatchStar))}
+                    for inner in ast.walk(case):
+                        self.assertFalse(isinstance(inner, ast.Name) and inner.id in captured - own, place)
+
+    def test_patterns(self):
+        allowed = (ast.MatchValue, ast.MatchSingleton, ast.MatchSequence, ast.MatchStar, ast.MatchAs, ast.MatchOr)
+        for node, place in nodes_of(ast.match_case):
+            for inner in ast.walk(node.pattern):
+                if isinstance(inner, ast.pattern):
+                    self.assertIsInstance(inner, allowed, place)
+                if isinstance(inner, ast.MatchOr):
+                    self.assertFalse([part for part in ast.walk(inner) if isinstance(part, (ast.MatchAs, ast.MatchStar))], place)
+            if node.guard is not None:
+                self.assertFalse([inner for inner in ast.walk(node.guard) if isinstance(inner, ast.Call)], place)
+
+
+class ClassesTest(unittest.TestCase):
+    def test_no_name_is_a_method_and_an_attribute(self):
+        methods, attributes = set(), set()
+        for node, _ in nodes_of(ast.ClassDef):
+            methods |= {inner.name for inner in node.body if isinstance(inner, ast.FunctionDef)}
+        for node, _ in nodes_of(ast.Attribute):
+            if isinstance(node.ctx, ast.Store):
+                attributes.add(node.attr)
+        self.assertEqual(methods & attributes, set())
+
+    def test_attributes_are_assigned_through_local_names(self):
+        for node, place in nodes_of(ast.Attribute):
+            if isinstance(node.ctx, ast.Store):
+                self.assertIsInstance(node.value, ast.Name, place)
+
+    def test_super_is_called_for_a_method(self):
+        for node, place in nodes_of(ast.Attribute):
+            if isinstance(node.value, ast.Call) and ast.unparse(node.value.func) == "super":
+                self.assertTrue(node.attr == "__init__" or not node.attr.startswith("__"), place)
+
+    def test_what_closes(self):
+        for node, place in nodes_of(ast.FunctionDef):
+            if node.name in ("__exit__", "_let_go"):
+                for statement in node.body:
+                    self.assertIsInstance(statement, (ast.Expr, ast.Assign), place)
+                    if isinstance(statement, ast.Assign):
+                        self.assertIn(ast.unparse(statement.value), ("False", "[]"), place)
+
+    def test_finally(self):
+        for node, place in nodes_of(ast.Try):
+            for statement in [inner for part in node.finalbody for inner in ast.walk(part) if isinstance(inner, ast.stmt)]:
+                self.assertIsInstance(statement, (ast.Assign, ast.If), place)
+                if isinstance(statement, ast.If):
+                    self.assertRegex(ast.unparse(statement.test), r"\A\w+ is None\Z", place)
+                else:
+                    self.assertRegex(ast.unparse(statement.value), r"\A\w+\Z", place)
+
+    def test_handlers_name_errors_of_the_package(self):
+        with open(os.path.join(FOLDER, "errors.py"), encoding="utf-8") as file:
+            own = {node.name for node in ast.parse(file.read()).body if isinstance(node, ast.ClassDef)}
+        for node, place in nodes_of(ast.ExceptHandler):
+            self.assertIn(ast.unparse(node.type), own, place)
+
+
 class InterfaceTest(unittest.TestCase):
     def test_names_are_defined_in_their_files(self):
         trees = {name: tree for name, _, tree in modules()}
@@ -241,6 +380,11 @@ class InterfaceTest(unittest.TestCase):
                 found = {node.name: node for node in defined[kind].body if isinstance(node, ast.FunctionDef)}
                 for method, parameters in methods.items():
                     self.assertEqual(ast.unparse(found[method].args), parameters, f"{kind}.{method}")
+
+    def test_class_values(self):
+        tree = {name: tree for name, _, tree in modules()}["sheets"]
+        sheet = [node for node in tree.body if isinstance(node, ast.ClassDef) and node.name == "Sheet"][0]
+        self.assertIn("MOST_BLOCK = 100", [ast.unparse(node) for node in sheet.body])
 
     def test_rules_are_a_tuple_of_their_file(self):
         tree = {name: tree for name, _, tree in modules()}["rewriting"]
