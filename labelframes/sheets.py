@@ -28,7 +28,7 @@ class Sheet:
             raise InvalidNumber(block)
         self._schema = frame.schema
         self._block = block
-        self._many = len(frame)
+        self._indexes = list(range(len(frame)))
         self._copies = 0
         self._is_open = True
         self._columns = []
@@ -54,7 +54,7 @@ class Sheet:
     def put(self, index, name, value):
         """Writes a value."""
         self._check_open()
-        if not is_index(index, self._many):
+        if not is_index(index, len(self)):
             raise InvalidNumber(index)
         places = places_of(self._schema)
         if not isinstance(name, str) or name not in places:
@@ -68,13 +68,13 @@ class Sheet:
         """Appends a row, and returns its index."""
         self._check_open()
         check_row(row, self._schema)
-        index = self._many
+        index = len(self)
         for place, value in enumerate(row):
             if index % self._block == 0:
                 self._columns[place].append(Block([value], self))
             else:
                 self._block_to_write(place, index // self._block).worths.append(value)
-        self._many = index + 1
+        self._indexes.append(index)
         return index
 
     def to_frame(self):
@@ -122,7 +122,7 @@ class Sheet:
 
     def _lend_to(self, twin):
         """Gives a new sheet without rows the blocks of this one, and returns it."""
-        twin._many = self._many
+        twin._indexes = list(self._indexes)
         twin._columns = [list(column) for column in self._columns]
         for column in twin._columns:
             for block in column:
@@ -137,8 +137,8 @@ class Sheet:
         self._let_go()
 
     def __len__(self):
-        # Not the length of the columns, which a closed sheet does not hold any more.
-        return len(range(self._many))
+        # A closed sheet holds no columns any more, but still the indexes of its rows.
+        return len(self._indexes)
 
 
 class NotedSheet(Sheet):
@@ -189,7 +189,7 @@ class BoundedSheet(Sheet):
     def change_most(self, most):
         """Sets the bound."""
         self._check_open()
-        if most is not None and (not is_count(most) or most < self._many):
+        if most is not None and (not is_count(most) or most < len(self)):
             raise InvalidNumber(most)
         self._most = most
 
@@ -197,7 +197,7 @@ class BoundedSheet(Sheet):
         """Appends a row, and returns its index."""
         self._check_open()
         check_row(row, self._schema)
-        if self._most is not None and self._many >= self._most:
+        if self._most is not None and len(self) >= self._most:
             raise TooMany(self._most)
         return super().add_row(row)
 

@@ -405,6 +405,14 @@ class SpecialMethodsTest(unittest.TestCase):
             if node.name == "__eq__":
                 self.assertRegex(ast.unparse(node.body[0]), r"\Areturn isinstance\(other, \w+\) and ", place)
 
+    def test_lengths_are_those_of_what_is_held(self):
+        for node, place in nodes_of(ast.FunctionDef):
+            if node.name == "__len__":
+                calls = [inner for inner in ast.walk(node) if isinstance(inner, ast.Call)]
+                listed = [item for call in calls if ast.unparse(call.func) == "list" for item in call.args]
+                ranges = [call for call in calls if ast.unparse(call.func) == "range"]
+                self.assertTrue(all([call in listed for call in ranges]), place)
+
     def test_classes_with_brackets_are_not_iterated_over(self):
         for node, place in nodes_of(ast.ClassDef):
             methods = {method.name for method in node.body if isinstance(method, ast.FunctionDef)}

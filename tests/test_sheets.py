@@ -161,6 +161,67 @@ class SheetTest(ErrorCase):
             self.assertEqual(getattr(sheet, name), before)
 
 
+class LengthTest(ErrorCase):
+    def test_put_leaves_the_number_of_rows(self):
+        for kind in CLASSES:
+            for many in (1, 4, 5, 400):
+                sheet = kind(frame(many))
+                for index in (0, many - 1):
+                    sheet.put(index, "a", None)
+                    self.assertEqual((len(sheet), len(rows_of(sheet))), (many, many))
+
+    def test_each_new_row_counts(self):
+        for kind in CLASSES:
+            for many in (0, 1, 3, 4):
+                for block in (1, 2, 4, 100):
+                    sheet = kind(frame(many), block=block)
+                    for more in range(1, 10):
+                        sheet.add_row((None, None))
+                        self.assertEqual((len(sheet), len(rows_of(sheet)), bool(sheet)), (many + more, many + more, True))
+
+    def test_twins_have_numbers_of_their_own(self):
+        for kind in CLASSES:
+            sheet = kind(frame(3), block=2)
+            other = sheet.twin()
+            self.assertEqual((len(sheet), len(other)), (3, 3))
+            other.add_row((1, "x"))
+            other.add_row((2, "x"))
+            self.assertEqual((len(sheet), len(other)), (3, 5))
+            third = other.twin()
+            sheet.add_row((3, "x"))
+            self.assertEqual((len(sheet), len(other), len(third)), (4, 5, 5))
+            third.put(4, "a", 0)
+            self.assertEqual((len(sheet), len(other), len(third)), (4, 5, 5))
+
+    def test_closed_sheets_keep_it(self):
+        for kind in CLASSES:
+            for many in (0, 1, 3, 400):
+                sheet = kind(frame(many))
+                sheet.add_row((1, "x"))
+                other = sheet.twin()
+                sheet.close()
+                other.add_row((2, "x"))
+                self.assertEqual((len(sheet), len(other)), (many + 1, many + 2))
+                with other:
+                    other.add_row((3, "x"))
+                self.assertEqual((len(sheet), len(other), bool(other)), (many + 1, many + 3, True))
+            empty = kind(frame(0))
+            empty.close()
+            self.assertEqual((len(empty), bool(empty)), (0, False))
+
+    def test_it_tells_which_rows_there_are(self):
+        for kind in CLASSES:
+            sheet = kind(frame(2), block=2)
+            other = sheet.twin()
+            other.add_row((1, "x"))
+            self.refuses(InvalidNumber, {"number": 2}, sheet.put, 2, "a", 7)
+            self.refuses(InvalidNumber, {"number": 3}, other.put, 3, "a", 7)
+            other.put(2, "a", 7)
+            self.assertEqual((len(sheet), rows_of(other)[2], len(other)), (2, (7, "x"), 3))
+            self.refuses(InvalidRow, {"index": 0}, other.add_row, ("x", "x"))
+            self.assertEqual((len(sheet), len(other)), (2, 3))
+
+
 class TwinsTest(ErrorCase):
     def test_a_twin_is_open_and_of_the_same_class(self):
         for kind in CLASSES:
